@@ -1,0 +1,1 @@
+"""Fitmost: bodies for kinds of things, and the one that fits most."""
