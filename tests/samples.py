@@ -53,3 +53,120 @@ def plain_tops(tuples, names):
 def pets():
     """The web of PETS."""
     return Web(PETS)
+
+
+def plain_has(spans, number):
+    """Whether one of some spans has a number, by the words alone."""
+    return any(all(low <= number for low in lows) and all(number <= high for high in highs) for lows, highs in spans)
+
+
+def plain_is_of(tuples, thing, kind):
+    """Whether a thing is of a kind, by the words alone."""
+    whole, names, spans, inners = kind
+    if whole:
+        return True
+    if thing is None:
+        return False
+    if isinstance(thing, list):
+        return any(all(plain_is_of(tuples, part, inner) for part in thing) for inner in inners)
+    if isinstance(thing, str):
+        return any(plain_beneath(tuples, thing, name) for name in names)
+    return plain_has(spans, thing)
+
+
+def spans_in_one_form(spans):
+    """Whether spans are in one form, by the words alone."""
+    if not isinstance(spans, tuple):
+        return False
+    for span in spans:
+        if not isinstance(span, tuple) or [type(end) for end in span] != [tuple, tuple]:
+            return False
+        low, high = span
+        if low and high and low > high:
+            return False
+    # Between two neighbours there are two ends, with a number in between that is none of theirs.
+    return all(
+        before[1] and after[0] and before[1][0] + 1 < after[0][0] for before, after in zip(spans, spans[1:])
+    )
+
+
+def span(low=None, high=None):
+    """The span from low to high, None where there is no end."""
+    return (() if low is None else (low,), () if high is None else (high,))
+
+
+ANY = (True, (), (), ())
+NONE = (False, (), (), ())
+
+
+def rough(names=(), spans=(), inners=()):
+    """A kind that is perhaps not in one form."""
+    return (False, tuple(names), tuple(spans), tuple(inners))
+
+
+def random_rough(source, levels):
+    """A kind of PETS, with at most so many levels of inners, that is perhaps not in one form."""
+    names = source.sample([name for name, over in PETS], source.choice((0, 0, 1, 2, 4)))
+    ends = (None, -2, 0, 1, 2, 3, 5, 9)
+    spans = [span(source.choice(ends), source.choice(ends)) for _ in range(source.choice((0, 0, 1, 2, 3)))]
+    many = source.choice((0, 1, 2, 3)) if levels else 0
+    inners = [source.choice((ANY, NONE)) if source.random() < 0.1 else random_rough(source, levels - 1)
+              for _ in range(many)]
+    return rough(names, spans, inners)
+
+
+def rough_kinds():
+    """Kinds of PETS, perhaps not in one form, of up to three levels of inners."""
+    small, great = rough(spans=[span(0, 3)]), rough(spans=[span(0, 9)])
+    cat, dog, pet = rough(["cat"]), rough(["dog"]), rough(["pet"])
+    told = [
+        ANY, NONE, cat, dog, pet, small, great,
+        rough(["lynx", "cat", "cat", "dog"]), rough(["wild", "pet", "stone"]),
+        rough(spans=[span()]), rough(spans=[span(None, -1), span(0, None)]), rough(spans=[span(3, 3)]),
+        rough(spans=[span(5, 4)]), rough(spans=[span(7, 9), span(0, 2), span(3, 3)]),
+        rough(spans=[span(-10 ** 60 + 1, 10 ** 60 - 1)]),
+        rough(inners=[NONE]), rough(inners=[ANY]), rough(inners=[ANY, cat, NONE]),
+        rough(inners=[small, great]), rough(inners=[cat, dog]), rough(inners=[rough(["cat", "dog"])]),
+        rough(inners=[dog, cat, dog, NONE]), rough(inners=[pet, small]), rough(inners=[rough(["pet"], [span(0, 3)])]),
+        rough(["cat"], [span(1, None)], [cat, small]),
+        rough(inners=[rough(inners=[NONE])]), rough(inners=[rough(inners=[ANY])]),
+        rough(inners=[rough(inners=[cat]), rough(inners=[small])]), rough(inners=[rough(inners=[cat, small])]),
+        rough(inners=[rough(["cat"], inners=[cat])]),
+        rough(inners=[rough(inners=[rough(inners=[NONE])])]), rough(inners=[rough(inners=[rough(["pet"]), great])]),
+        rough(["pet"], [], [rough(["dog"], [], [rough(["cat"], [], [rough(["stone"])])])]),
+    ]
+    source = random.Random(12)
+    return told + [random_rough(source, levels) for levels in (1, 1, 2, 2, 3) for _ in range(6)]
+
+
+def cut_in_two(told, cut):
+    """Two spans, one perhaps without numbers, with the numbers of one: those up to the cut, and those behind it."""
+    low, high = told
+    return [(low, min((cut,), high or (cut,))), (max((cut + 1,), low), high)]
+
+
+def retold(source, kind):
+    """Another telling of a kind of PETS: shuffled, parts told twice, and parts put in that change nothing."""
+    whole, names, spans, inners = kind
+    if whole:
+        return kind
+    beneath = [low for low, over in PETS if any(plain_beneath(PETS, low, name) for name in names)]
+    names = list(names) + beneath[:source.randint(0, 3)]
+    spans = [part for told in spans for part in cut_in_two(told, source.randint(-3, 10))] + [span(4, 1)]
+    lesser = [rough(inner[1][:1], inner[2][:1], inner[3][:1]) for inner in inners if not inner[0]]
+    inners = [retold(source, inner) for inner in inners] + list(inners[:source.randint(0, 2)]) + lesser
+    for parts in (names, spans, inners):
+        source.shuffle(parts)
+    choice = source.choice((list, tuple))
+    return (False, choice(names), choice(spans), choice(inners))
+
+
+def sample_things():
+    """Things of PETS: numbers at and beside ends, names, the blank, and lists of up to three in one another."""
+    plain = [None, *[name for name, over in PETS], *range(-4, 12), 10 ** 60 - 1, -10 ** 60 + 1, 10 ** 59]
+    source = random.Random(3)
+    once = [[], *[[thing] for thing in plain]] + [source.choices(plain[1:], k=source.randint(2, 4)) for _ in range(60)]
+    twice = [[thing] for thing in once[::3]] + [source.choices(plain + once, k=source.randint(2, 4)) for _ in range(40)]
+    thrice = [[[[]]]] + [[thing] for thing in twice[::3]] + [
+        source.choices(once + twice, k=source.randint(2, 3)) for _ in range(30)]
+    return plain + once + twice + thrice
