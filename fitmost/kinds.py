@@ -81,6 +81,14 @@ def kind_of(web, names, spans, inners):
     return (False, tuple(web.tops(names)), spans_formed(spans), outermost(web, inners))
 
 
+def names_in(kind):
+    """A list of all names in a kind, within however many inners."""
+    names = list(kind[1])
+    for inner in kind[3]:
+        names = names + names_in(inner)
+    return names
+
+
 def in_one_form(web, kind):
     """The kind in one form that has a kind's things."""
     whole, names, spans, inners = kind

@@ -1,32 +1,7 @@
 """Webs: kinds by their names, each with the kinds straight over it."""
 
-from fitmost.errors import NoKind, NoName, Ring, Taken
-from fitmost.names import is_name
-
-
-def refuse_no_names(rows):
-    """Raise NoName where a word of the rows, wherever it stands, is no name."""
-    for name, over in rows:
-        for word in [name] + over:
-            if not is_name(word):
-                raise NoName(f"{word!r} is no name")
-
-
-def refuse_taken(rows):
-    """Raise Taken where a name has two rows."""
-    names = [name for name, over in rows]
-    for at, name in enumerate(names):
-        if name in names[:at]:
-            raise Taken(f"{name} is told twice")
-
-
-def refuse_no_kinds(rows):
-    """Raise NoKind where a name stands over a kind, but has no row."""
-    names = [name for name, over in rows]
-    for name, over in rows:
-        for up in over:
-            if up not in names:
-                raise NoKind(f"{up}, over {name}, is not told")
+from fitmost.errors import Ring
+from fitmost.names import refuse_no_kinds, refuse_no_names, refuse_taken
 
 
 def ring_among(straight, left):
@@ -59,9 +34,11 @@ class Web:
 
     def __init__(self, tuples):
         rows = [(name, list(over)) for name, over in tuples]
-        refuse_no_names(rows)
-        refuse_taken(rows)
-        refuse_no_kinds(rows)
+        names = [name for name, over in rows]
+        ups = [up for name, over in rows for up in over]
+        refuse_no_names(names + ups)
+        refuse_taken(names)
+        refuse_no_kinds(ups, names)
         self.straight = {name: sorted(set(over)) for name, over in rows}
         self.above = all_above(self.straight)
 

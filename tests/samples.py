@@ -2,6 +2,8 @@
 
 import random
 
+from fitmost.kinds import within
+from fitmost.kindtexts import read_kind
 from fitmost.webs import Web
 
 PETS = [
@@ -170,3 +172,49 @@ def sample_things():
     thrice = [[[[]]]] + [[thing] for thing in twice[::3]] + [
         source.choices(once + twice, k=source.randint(2, 3)) for _ in range(30)]
     return plain + once + twice + thrice
+
+
+def kind(text):
+    """The kind of PETS that a text writes."""
+    return read_kind(pets(), text)
+
+
+def told_bodies(*rows):
+    """Bodies of PETS called a, b and so on, in turn, each by the texts of its kinds."""
+    return [("abcdefgh"[at], tuple(kind(text) for text in row.split(", "))) for at, row in enumerate(rows)]
+
+
+def plain_fits(tuples, body, call):
+    """Whether a body fits a call, by the words alone."""
+    return all(plain_is_of(tuples, thing, told) for thing, told in zip(call, body[1], strict=True))
+
+
+def plain_closer(web, one, other):
+    """Whether a body is closer than another one, by the words alone."""
+    return tuple(one[1]) != tuple(other[1]) and all(within(web, ours, theirs) for ours, theirs in zip(one[1], other[1]))
+
+
+def plain_picked(web, tuples, bodies, call):
+    """What is picked of a call, by the words alone."""
+    fitting = [body for body in bodies if plain_fits(tuples, body, call)]
+    for body in fitting:
+        if all(plain_closer(web, body, other) for other in fitting if other[0] != body[0]):
+            return ("one", body[0])
+    if not fitting:
+        for place in range(max(1, len(call))):
+            upto = call[:place + 1]
+            if not any(plain_fits(tuples, (name, row[:place + 1]), upto) for name, row in bodies):
+                return ("none", place)
+    one, other = [name for name, row in fitting
+                  if not any(plain_closer(web, rival, (name, row)) for rival in fitting)][:2]
+    return ("quarrel", one, other)
+
+
+def random_bodies(source, pool, places, many):
+    """At most so many bodies of unlike rows, of kinds of a pool."""
+    told = []
+    for name in source.sample("abcdefgh", many):
+        row = tuple(source.choice(pool) for _ in range(places))
+        if row not in [other for _, other in told]:
+            told.append((name, row))
+    return told
