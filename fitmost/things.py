@@ -35,3 +35,8 @@ def own_kind(web, thing):
     for part in thing:
         inner = joined(web, inner, own_kind(web, part))
     return formed(web, [], [], [inner])
+
+
+def copied(thing):
+    """A thing like another one, with lists of its own."""
+    return [copied(part) for part in thing] if isinstance(thing, list) else thing

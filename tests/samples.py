@@ -1,9 +1,11 @@
 """Webs that several tests go through, and the document's words on them told again as plainly as can be."""
 
+import itertools
 import random
 
-from fitmost.kinds import within
-from fitmost.kindtexts import read_kind
+from fitmost.errors import FitError, NoText
+from fitmost.kinds import apart, joined, met, within
+from fitmost.kindtexts import read_kind, show_kind
 from fitmost.webs import Web
 
 PETS = [
@@ -174,6 +176,36 @@ def sample_things():
     return plain + once + twice + thrice
 
 
+def check_texts(test, read, is_written, texts):
+    """That just those texts are refused with NoText that are not written so, and that there are some of either."""
+    told = {True: 0, False: 0}
+    for text in texts:
+        try:
+            read(text)
+            was_read = True
+        except NoText:
+            was_read = False
+        except FitError:
+            was_read = True
+        test.assertEqual(was_read, is_written(text), text)
+        told[was_read] += 1
+    test.assertGreater(min(told.values()), 40)
+
+
+def short_texts(signs, longest):
+    """All texts of some signs, of at most so many."""
+    for many in range(longest + 1):
+        for told in itertools.product(signs, repeat=many):
+            yield "".join(told)
+
+
+def longer_texts(number, words):
+    """Texts of some words, the same in every run."""
+    source = random.Random(number)
+    for _ in range(20000):
+        yield "".join(source.choices(words, k=source.randint(3, 9)))
+
+
 def kind(text):
     """The kind of PETS that a text writes."""
     return read_kind(pets(), text)
@@ -215,6 +247,58 @@ def random_bodies(source, pool, places, many):
     told = []
     for name in source.sample("abcdefgh", many):
         row = tuple(source.choice(pool) for _ in range(places))
+        if row not in [other for _, other in told]:
+            told.append((name, row))
+    return told
+
+
+def plain_line(web, tuples, bodies, call):
+    """The line of a call, by the words alone."""
+    left, names = [body for body in bodies if plain_fits(tuples, body, call)], []
+    while left:
+        first = next(body for body in left if not any(plain_closer(web, other, body) for other in left))
+        names.append(first[0])
+        left.remove(first)
+    return names
+
+
+def plain_sorts(web, kinds):
+    """For each marks that some thing has, rising, such a thing: one of all of some kinds, and of none of the others."""
+    told = [((), ANY, NONE)]
+    for one in kinds:
+        told = [row for marks, inside, outside in told for row in (
+            (marks + (0,), inside, joined(web, outside, one)), (marks + (1,), met(web, inside, one), outside))
+            if apart(web, *row[1:])]
+    return [(marks, apart(web, inside, outside)[0]) for marks, inside, outside in told]
+
+
+def plain_calls(web, bodies, row):
+    """Calls of a row, one at least for each way in which bodies may tell calls apart, by the words alone."""
+    choices = []
+    for place, ours in enumerate(row):
+        theirs = {show_kind(told[place]): told[place] for _, told in bodies}
+        choices.append([thing for marks, thing in plain_sorts(web, [*theirs.values(), ours]) if marks[-1]])
+    return [list(call) for call in itertools.product(*choices)]
+
+
+BODY_KINDS = (
+    "cat", "pet", "wild", "dog|lynx", "pet|wild", "stone|1", "..", "1..9", "..5", "3", "..0|4|7..", "[any]", "[none]",
+    "[cat]|[dog]", "[cat|dog]", "[pet]", "[..]", "[1..9]|[wild]", "[..5|pet]", "cat|1..9|[..]", "[[..]|[cat]]",
+    "[[..]]|[[pet]]", "[[1..9|cat]]", "pet|[[none]]", "[1|2]|[2|3]|[1|3]", "[1|2|3]", "[any]|..",
+)
+
+
+def some_bodies(number):
+    """Bodies of PETS, of one to three places and at most six looks, the same in every run."""
+    source = random.Random(number)
+    places = source.randint(1, 3)
+    pools = []
+    for _ in range(places):
+        kinds = [kind(text) for text in source.sample(BODY_KINDS, 6 // places)]
+        pools.append(5 * kinds + len(kinds) * [ANY] + [NONE])
+    told = []
+    for name in source.sample("abcdefgh", source.randint(1, 8)):
+        row = tuple(source.choice(pool) for pool in pools)
         if row not in [other for _, other in told]:
             told.append((name, row))
     return told

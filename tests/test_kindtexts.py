@@ -1,6 +1,5 @@
 """kindtexts: [13] and [16] of kinds, and [2] of them."""
 
-import itertools
 import random
 import re
 import unittest
@@ -9,7 +8,7 @@ from fitmost.errors import NoKind, NoText
 from fitmost.kinds import any_kind, formed
 from fitmost.kindtexts import read_kind, show_kind
 from fitmost.webs import Web
-from samples import ANY, NONE, pets, rough, rough_kinds, span
+from samples import ANY, NONE, check_texts, longer_texts, pets, rough, rough_kinds, short_texts, span
 
 WEB = pets()
 SIXTY = "9" * 60
@@ -233,36 +232,11 @@ class Refused(unittest.TestCase):
                    "cow|Cow")
 
     def test_all_short_texts(self):
-        told = {True: 0, False: 0}
-        web = Web([(name, []) for name in ("a", "aa", "aaa", "aaaa", "aaaaa")])
-        for many in range(6):
-            for signs in itertools.product("[]|.01-a", repeat=many):
-                text = "".join(signs)
-                try:
-                    read_kind(web, text)
-                    read = True
-                except NoText:
-                    read = False
-                self.assertEqual(read, is_written(text), text)
-                told[read] += 1
-        self.assertGreater(min(told.values()), 200)
+        check_texts(self, lambda text: read_kind(WEB, text), is_written, short_texts("[]|.01-a", 5))
 
     def test_longer_texts(self):
-        source = random.Random(16)
-        web, told = Web([("a", [])]), {True: 0, False: 0}
-        for _ in range(20000):
-            text = "".join(source.choices(["[", "[[", "]", "]]", "]|[", "|", "|", "a", "1", "-2..9"],
-                k=source.randint(3, 9)))
-            try:
-                read_kind(web, text)
-                read = True
-            except NoText:
-                read = False
-            except NoKind:
-                read = True
-            self.assertEqual(read, is_written(text), text)
-            told[read] += 1
-        self.assertGreater(min(told.values()), 40)
+        words = ["[", "[[", "]", "]]", "]|[", "|", "|", "a", "1", "-2..9"]
+        check_texts(self, lambda text: read_kind(WEB, text), is_written, longer_texts(16, words))
 
     def test_other_webs(self):
         for web in (Web([]), Web([("dog", [])])):

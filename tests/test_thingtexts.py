@@ -1,15 +1,12 @@
 """kindtexts: [14] and [16] of things, and [2] of them."""
 
 import copy
-import itertools
-import random
 import re
 import unittest
 
 from fitmost.errors import NoKind, NoText
 from fitmost.kindtexts import read_thing, show_thing
-from fitmost.webs import Web
-from samples import pets, sample_things
+from samples import check_texts, longer_texts, pets, sample_things, short_texts
 
 WEB = pets()
 GREAT = 10 ** 60 - 1
@@ -134,36 +131,11 @@ class Refused(unittest.TestCase):
         self.check(NoKind, plain_text(["cow"] + [1] * 58))
 
     def test_all_short_texts(self):
-        told = {True: 0, False: 0}
-        web = Web([("a" * at, []) for at in range(1, 6)])
-        for length in range(6):
-            for signs in itertools.product("[],-01a", repeat=length):
-                text = "".join(signs)
-                try:
-                    read_thing(web, text)
-                    read = True
-                except NoText:
-                    read = False
-                self.assertEqual(read, is_written(text), text)
-                told[read] += 1
-        self.assertGreater(min(told.values()), 40)
+        check_texts(self, lambda text: read_thing(WEB, text), is_written, short_texts("[],-01a", 5))
 
     def test_longer_texts(self):
-        source = random.Random(14)
-        web, told = Web([("a", [])]), {True: 0, False: 0}
-        for _ in range(20000):
-            text = "".join(source.choices(["[", "[[", "]", "]]", "],[", ",", "a", "1", "[]", "blank"],
-                k=source.randint(3, 9)))
-            try:
-                read_thing(web, text)
-                read = True
-            except NoText:
-                read = False
-            except NoKind:
-                read = True
-            self.assertEqual(read, is_written(text), text)
-            told[read] += 1
-        self.assertGreater(min(told.values()), 40)
+        words = ["[", "[[", "]", "]]", "],[", ",", "a", "1", "[]", "blank"]
+        check_texts(self, lambda text: read_thing(WEB, text), is_written, longer_texts(14, words))
 
 
 class Kept(unittest.TestCase):

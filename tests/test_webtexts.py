@@ -8,7 +8,7 @@ import unittest
 from fitmost.errors import NoKind, NoText, Ring, Taken
 from fitmost.webs import Web
 from fitmost.webtexts import read_web, show_web
-from samples import pets, random_webs
+from samples import check_texts, pets, random_webs, short_texts
 
 TUPLE = r"[a-z]{1,8}(?:: [a-z]{1,8}(?:, [a-z]{1,8})*)?"
 WRITTEN = re.compile(rf"(?:{TUPLE}(?:; {TUPLE})*)?")
@@ -127,20 +127,7 @@ class Refused(unittest.TestCase):
         self.check(NoKind, "a: a, c", "a: a; b: c", "b: c; a: a")
 
     def test_all_short_texts(self):
-        told = {True: 0, False: 0}
-        for length in range(7):
-            for signs in itertools.product("ab:;, ", repeat=length):
-                text = "".join(signs)
-                try:
-                    read_web(text)
-                    read = True
-                except NoText:
-                    read = False
-                except (Taken, NoKind, Ring):
-                    read = True
-                self.assertEqual(read, is_written(text), text)
-                told[read] += 1
-        self.assertGreater(min(told.values()), 100)
+        check_texts(self, read_web, is_written, short_texts("ab:;, ", 6))
 
 
 class Kept(unittest.TestCase):
