@@ -80,3 +80,8 @@ class Web:
         return self.tops([
             name for name in self.straight if self.beneath_some(name, ones) and self.beneath_some(name, others)
         ])
+
+
+def alike(web):
+    """A web of its own, told as another one."""
+    return Web([(name, web.over(name)) for name in web.names()])

@@ -6,6 +6,7 @@ import random
 from fitmost.errors import FitError, NoText
 from fitmost.kinds import apart, joined, met, within
 from fitmost.kindtexts import read_kind, show_kind
+from fitmost.quarrels import looks
 from fitmost.webs import Web
 
 PETS = [
@@ -242,6 +243,12 @@ def plain_picked(web, tuples, bodies, call):
     return ("quarrel", one, other)
 
 
+def plain_answer(bodies, call):
+    """The answer of a call of bodies of PETS, by the words alone."""
+    told = plain_picked(pets(), PETS, bodies, call)
+    return {"one": told, "quarrel": ("quarrel",), "none": ("none",)}[told[0]]
+
+
 def random_bodies(source, pool, places, many):
     """At most so many bodies of unlike rows, of kinds of a pool."""
     told = []
@@ -279,6 +286,31 @@ def plain_calls(web, bodies, row):
         theirs = {show_kind(told[place]): told[place] for _, told in bodies}
         choices.append([thing for marks, thing in plain_sorts(web, [*theirs.values(), ours]) if marks[-1]])
     return [list(call) for call in itertools.product(*choices)]
+
+
+def outcomes(bodies):
+    """What looks of bodies come to together, with the answers: tuples (tuple of True and False, answer), each once."""
+    told = []
+    for call in plain_calls(pets(), bodies, [ANY] * len(bodies[0][1])):
+        row = (tuple(plain_is_of(PETS, call[place], look) for place, look in looks(bodies)), plain_answer(bodies, call))
+        if row not in told:
+            told.append(row)
+    return told
+
+
+def enough(rows, many):
+    """Whether so many looks, each chosen by what the ones before came to, tell the answers of some outcomes apart."""
+    if len({answer for said, answer in rows}) < 2:
+        return True
+    return many > 0 and any(
+        all(enough([row for row in rows if row[0][look] is so], many - 1) for so in (True, False))
+        for look in range(len(rows[0][0])))
+
+
+def plain_depth(bodies):
+    """The least depth of a right tree of bodies, by the words alone."""
+    rows = outcomes(bodies)
+    return next(many for many in range(7) if enough(rows, many))
 
 
 BODY_KINDS = (

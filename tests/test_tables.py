@@ -9,16 +9,10 @@ from fitmost.errors import TooMany
 from fitmost.quarrels import looks
 from fitmost.tables import answer, parted, sign, table, told_by
 from fitmost.webs import Web
-from samples import (ANY, PETS, kind, pets, plain_calls, plain_is_of, plain_picked, rough, sample_things, some_bodies,
+from samples import (ANY, PETS, kind, pets, plain_answer, plain_calls, plain_is_of, rough, sample_things, some_bodies,
                      told_bodies)
 
 WEB = pets()
-
-
-def plain_answer(bodies, call):
-    """The answer of a call, by the words alone."""
-    told = plain_picked(WEB, PETS, bodies, call)
-    return {"one": told, "quarrel": ("quarrel",), "none": ("none",)}[told[0]]
 
 
 def plain_sign(bodies, place, thing):
