@@ -6,6 +6,8 @@ import random
 from fitmost.errors import FitError, NoText
 from fitmost.kinds import apart, joined, met, within
 from fitmost.kindtexts import read_kind, show_kind
+from fitmost.programs import Program
+from fitmost.programtexts import read_program
 from fitmost.quarrels import looks
 from fitmost.webs import Web
 
@@ -177,8 +179,8 @@ def sample_things():
     return plain + once + twice + thrice
 
 
-def check_texts(test, read, is_written, texts):
-    """That just those texts are refused with NoText that are not written so, and that there are some of either."""
+def check_texts(test, read, is_written, texts, least=40):
+    """That just those texts are refused with NoText that are not written so, and that there are enough of either."""
     told = {True: 0, False: 0}
     for text in texts:
         try:
@@ -190,7 +192,7 @@ def check_texts(test, read, is_written, texts):
             was_read = True
         test.assertEqual(was_read, is_written(text), text)
         told[was_read] += 1
-    test.assertGreater(min(told.values()), 40)
+    test.assertGreater(min(told.values()), least)
 
 
 def short_texts(signs, longest):
@@ -334,3 +336,150 @@ def some_bodies(number):
         if row not in [other for _, other in told]:
             told.append((name, row))
     return told
+
+
+PETS_ROW = "pet; cat: pet, wild; dog: pet; wild; lynx: cat, wild; stone"
+
+
+def told_program(*rows):
+    """The program of PETS that rows behind the web's write."""
+    return read_program("\n".join([PETS_ROW, *rows]))
+
+
+def random_term(source, places, many, deep):
+    """A term of at most so many in one another, for a body of many places; places are those of all functions."""
+    words = ["whole", "make", "blank", "part", "part", "part", "on"]
+    if deep > 1:
+        words += ["row", "sum", "less", "call", "call", "each", "if", "if", "if"]
+    word = source.choice(words)
+
+    def inner():
+        return random_term(source, places, many, deep - 1)
+
+    if word == "whole":
+        return (word, source.choice((0, 1, 3, 7, 12, -2)))
+    if word == "make":
+        return (word, source.choice(PETS)[0])
+    if word == "part":
+        return (word, source.randrange(many))
+    if word == "row":
+        return (word, tuple(inner() for _ in range(source.randint(0, 3))))
+    if word in ("sum", "less"):
+        return (word, inner(), inner())
+    if word == "call":
+        name = source.choice(sorted(places))
+        return (word, name, tuple(inner() for _ in range(places[name])))
+    singles = sorted(name for name in places if places[name] == 1)
+    if word == "each" and singles:
+        return (word, source.choice(singles), inner())
+    if word == "if":
+        return (word, inner(), kind(source.choice(BODY_KINDS)), inner(), inner())
+    return ("on",) if word == "on" else ("blank",)
+
+
+def some_functions(number):
+    """Functions of PETS: one to three, of one or two places, of one to five bodies, the same in every run."""
+    source = random.Random(number)
+    places = {name: source.choice((1, 1, 2)) for name in source.sample("fgh", source.randint(1, 3))}
+    told = []
+    for name, many in places.items():
+        # Often a few kinds alone, in a chain, and any: so that some programs have no flaws.
+        pool = [ANY, *map(kind, source.choice((
+            ("cat", "pet", "pet|.."), ("..", "0..9", "3"), ("[any]", "[..]", "[1..9]"), ("..", "[any]", "pet"),
+            source.sample(BODY_KINDS, 3))))]
+        bodies = random_bodies(source, pool, many, source.randint(1, 5))
+        result = source.choice((ANY, ANY, kind(source.choice(BODY_KINDS)), kind("..|[any]")))
+        told.append((name, result, [
+            (body, row, random_term(source, places, many, source.randint(1, 4))) for body, row in bodies]))
+    return told
+
+
+def some_program(number):
+    """A program of some_functions."""
+    return Program(pets(), some_functions(number))
+
+
+class Stop(Exception):
+    """What a plain run tells, where it is no thing."""
+
+
+def plain_run(tuples, functions, function, things, most=200, seen=None):
+    """What a run tells, by the words alone; seen is a list to put in tuples (function, body, place, thing)."""
+    web, calls = Web(tuples), []
+    bodies_of = {name: bodies for name, result, bodies in functions}
+
+    def begin(others):
+        if len(calls) + 1 > most or len(others) > 12:
+            raise Stop("long")
+        calls.append(others)
+
+    def call(name, given, others):
+        begin(others)
+        rows = [(body, row) for body, row, term in bodies_of[name]]
+        told = plain_picked(web, tuples, rows, given)
+        if told[0] != "one":
+            raise Stop(told[0], name, *told[1:])
+        return tell(name, told[1], given, others)
+
+    def tell(name, body, given, others):
+        return value({told: term for told, row, term in bodies_of[name]}[body], (), (name, body, given, others))
+
+    def hand_on(name, body, given, others):
+        begin(others)
+        names = plain_line(web, tuples, [(told, row) for told, row, term in bodies_of[name]], given)
+        if names[-1] == body:
+            raise Stop("end", name, body)
+        return tell(name, names[names.index(body) + 1], given, others)
+
+    def value(term, place, at):
+        thing = value_of(term, place, at)
+        if seen is not None:
+            seen.append((at[0], at[1], place, thing))
+        return thing
+
+    def bounded(told):
+        def size(thing):
+            return 1 + sum(map(size, thing)) if isinstance(thing, list) else 1
+
+        def deep(thing):
+            return 1 + max(map(deep, thing), default=0) if isinstance(thing, list) else 0
+
+        if size(told) > 60 or deep(told) > 3:
+            raise Stop("long")
+        return told
+
+    def value_of(term, place, at):
+        name, body, given, others = at
+        inside = others + ((name, body),)
+        match term:
+            case ("whole" | "make", told):
+                return told
+            case ("blank",):
+                return None
+            case ("part", number):
+                return given[number]
+            case ("row", terms):
+                return bounded([value(inner, place + (step,), at) for step, inner in enumerate(terms)])
+            case ("sum" | "less" as word, *sides):
+                one, other = [value(inner, place + (step,), at) for step, inner in enumerate(sides)]
+                if type(one) is not int or type(other) is not int:
+                    raise Stop("number")
+                return one + other if word == "sum" else one - other
+            case ("call", called, terms):
+                return call(called, [value(inner, place + (step,), at) for step, inner in enumerate(terms)], inside)
+            case ("each", called, inner):
+                told = value(inner, place + (0,), at)
+                if not isinstance(told, list):
+                    raise Stop("row")
+                return bounded([call(called, [thing], inside) for thing in told])
+            case ("on",):
+                return hand_on(name, body, given, inside)
+            case ("if", asked, told, then, otherwise):
+                if plain_is_of(tuples, value(asked, place + (0,), at), told):
+                    return value(then, place + (1,), at)
+                return value(otherwise, place + (2,), at)
+
+    try:
+        return ("thing", call(function, list(things), ()))
+    except Stop as stop:
+        return stop.args

@@ -18,8 +18,8 @@ NODES = {
 }
 PYTHONS_OWN = {
     "len", "range", "enumerate", "zip", "min", "max", "sum", "abs", "sorted", "reversed", "int", "str", "bool", "bytes",
-    "list", "tuple", "dict", "set", "isinstance", "ord", "repr", "any", "all", "divmod", "ValueError", "KeyError",
-    "IndexError", "LookupError", "ZeroDivisionError",
+    "list", "tuple", "dict", "set", "isinstance", "ord", "repr", "any", "all", "divmod", "Exception", "ValueError",
+    "KeyError", "IndexError", "LookupError", "ZeroDivisionError",
 }
 METHODS = set("""
     append clear copy count endswith extend find get index insert isalnum isalpha isdigit islower isspace isupper items
@@ -122,6 +122,14 @@ class Form(unittest.TestCase):
                     else:
                         self.assertLessEqual(len(node.bases), 1)
                         self.assertEqual(node.keywords, [])
+
+    def test_errors_are_taken_by_their_own_names(self):
+        for name, tree in trees().items():
+            for node in nodes(tree, ast.ExceptHandler):
+                with self.subTest(name, line=node.lineno):
+                    told = node.type.elts if isinstance(node.type, ast.Tuple) else [node.type]
+                    for error in told:
+                        self.assertNotIn(error.id, ("Exception", "TypeError", "ValueError"))
 
     def test_is_and_powers(self):
         for name, tree in trees().items():
