@@ -15,7 +15,10 @@ def none_kind():
 
 def names_apart(web, ones, others):
     """A list of one of the ones that is beneath none of the others, or [] where there is none."""
-    return [name for name in ones if not web.beneath_some(name, others)][:1]
+    for name in ones:
+        if not web.beneath_some(name, others):
+            return [name]
+    return []
 
 
 def inner_apart(web, inner, others):

@@ -3,7 +3,10 @@
 
 def spans_have(spans, number):
     """Whether one of the spans has the number."""
-    return any([(not low or low[0] <= number) and (not high or number <= high[0]) for low, high in spans])
+    for low, high in spans:
+        if (not low or low[0] <= number) and (not high or number <= high[0]):
+            return True
+    return False
 
 
 def full(spans):
@@ -77,4 +80,7 @@ def spans_apart(one, other):
         tried = tried + list(low) + list(high)
     for low, high in other:
         tried = tried + [number - 1 for number in low] + [number + 1 for number in high]
-    return [number for number in tried if spans_have(one, number) and not spans_have(other, number)][:1]
+    for number in tried:
+        if spans_have(one, number) and not spans_have(other, number):
+            return [number]
+    return []

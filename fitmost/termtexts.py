@@ -46,6 +46,12 @@ class TermReader:
         self.rest = self.rest[size:]
         return word
 
+    def read_kind_text(self):
+        """Read the text of an if's kind, and the sign behind it."""
+        kind, mark, rest = self.rest.partition(" ? ")
+        self.rest = rest
+        return kind
+
     def read_next(self, deep):
         """Read a term that stands so many in one another; NoText where none comes next, or there are too many."""
         self.begun += 1
@@ -87,9 +93,9 @@ class TermReader:
             told = ("less", one, self.read_next(deep))
         else:
             self.read_signs(" is ")
-            kind, mark, self.rest = self.rest.partition(" ? ")
-            then = ("if", one, read_parts(nested(kind, "|")), self.read_next(deep))
+            kind = read_parts(nested(self.read_kind_text(), "|"))
+            then = self.read_next(deep)
             self.read_signs(" : ")
-            told = then + (self.read_next(deep),)
+            told = ("if", one, kind, then, self.read_next(deep))
         self.read_signs(")")
         return told

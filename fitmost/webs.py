@@ -65,7 +65,10 @@ class Web:
 
     def beneath_some(self, name, others):
         """Whether a kind is beneath one of the others."""
-        return any([self.beneath(name, other) for other in others])
+        for other in others:
+            if self.beneath(name, other):
+                return True
+        return False
 
     def beneath_another(self, name, names):
         """Whether a kind is beneath one of the names that is not itself."""
