@@ -74,7 +74,7 @@ def outermost(web, inners):
     """Those of some inners in one form, in order, each once, that lie within no other one."""
     told = []
     for inner in sorted(inners):
-        if inner not in told:
+        if told[-1:] != [inner]:
             told.append(inner)
     return tuple([inner for inner in told if not within_another(web, inner, told)])
 

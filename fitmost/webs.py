@@ -65,14 +65,19 @@ class Web:
 
     def beneath_some(self, name, others):
         """Whether a kind is beneath one of the others."""
+        above = self.above[name]
         for other in others:
-            if self.beneath(name, other):
+            if other in above:
                 return True
         return False
 
     def beneath_another(self, name, names):
         """Whether a kind is beneath one of the names that is not itself."""
-        return any([other != name and self.beneath(name, other) for other in names])
+        above = self.above[name]
+        for other in names:
+            if other != name and other in above:
+                return True
+        return False
 
     def tops(self, names):
         """Those names, in order, each once, that are beneath none of them but themselves."""
